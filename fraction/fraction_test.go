@@ -34,7 +34,7 @@ func TestMake(t *testing.T) {
 	ends := []int64{math.MinInt64, math.MinInt64 + 1, math.MinInt64 / 2, -1 << 32, -top, -6, -4, -3, -2, -1, 0, 1, 2, 3, 4, 6, top, 1 << 32, math.MaxInt64 - 1, math.MaxInt64}
 	for _, num := range ends {
 		for _, den := range ends {
-			make := func([]api.Frac) answer {
+			call := func([]api.Frac) answer {
 				x, err := fraction.Make(num, den)
 				return answer{frac: x, err: err}
 			}
@@ -42,7 +42,7 @@ func TestMake(t *testing.T) {
 			if den != 0 {
 				want = right(ratio(num, den))
 			}
-			if got := ask(t, make); !got.equal(want) {
+			if got := ask(t, call); !got.equal(want) {
 				t.Errorf("Make(%d, %d): got %v, want %v", num, den, got, want)
 			}
 		}
