@@ -8,63 +8,17 @@ import (
 	"testing"
 
 	"drydock/api"
-	"drydock/fleet"
-	"drydock/fraction"
+	"drydock/testfleet"
 	"drydock/topology"
 )
 
-func ratio(num, den int64) api.Frac {
-	x, err := fraction.Make(num, den)
-	if err != api.OK {
-		panic("no fraction")
-	}
-	return x
-}
-
-// policy returns a policy of a code with bounds for the levels 1 to 4.
-func policy(k, m int, spread [4]int, models ...int) api.Policy {
-	p := api.Policy{K: k, M: m, Quorum: k, Models: models, Target: ratio(1, 9), Horizon: ratio(2, 1)}
-	copy(p.Spread[1:], spread[:])
-	for range max(m, 1) {
-		p.Repair = append(p.Repair, ratio(1, 2))
-	}
-	return p
-}
-
-// build returns a fleet of domains with these parents (those of domain 1 and on), of models with these numbers of extents, of these drives and policies, and of a volume for each of some policies.
-func build(parents, extents []int, drives []api.Drive, policies []api.Policy, volumes ...int) api.Fleet {
-	f := api.Fleet{Extent: 1, Domains: []api.Domain{{Parent: -1, Shock: ratio(0, 1)}}}
-	f.Laws = []api.Law{{Name: "law", Start: []api.Frac{ratio(1, 1)}, Rates: [][]api.Frac{{ratio(0, 1)}}, Exit: []api.Frac{ratio(1, 5)}}}
-	for i, n := range extents {
-		f.Models = append(f.Models, api.Model{Name: fmt.Sprint("m", i), Extents: n, Port: 1})
-	}
-	for i, parent := range parents {
-		f.Domains = append(f.Domains, api.Domain{Name: fmt.Sprint("c", i+1), Level: f.Domains[parent].Level + 1, Parent: parent, Uplink: 1, Shock: ratio(int64(i), 7)})
-	}
-	for i, d := range drives {
-		d.Name = fmt.Sprint("d", i)
-		f.Drives = append(f.Drives, d)
-	}
-	for i, p := range policies {
-		p.Name, p.Models, p.Repair = fmt.Sprint("p", i), slices.Clone(p.Models), slices.Clone(p.Repair)
-		f.Policies = append(f.Policies, p)
-	}
-	for i, p := range volumes {
-		f.Volumes = append(f.Volumes, api.Volume{Name: fmt.Sprint("v", i), Policy: p})
-	}
-	if fleet.Validate(f) != api.OK {
-		panic("a fleet of the tests is not valid")
-	}
-	return f
-}
-
 // sample returns a fleet whose domains and drives do not stand in depth-first order. Its sites are 1, 2 and 14, its rooms 3, 4 and 13, its racks 5, 6 and 8, the others machines. A room, a machine and a site are empty.
 func sample() api.Fleet {
-	return build(
+	return testfleet.Build(
 		[]int{0, 0, 1, 2, 4, 3, 6, 3, 5, 6, 8, 8, 1, 0},
 		[]int{3, 1, 16},
 		[]api.Drive{{Model: 1, Machine: 10}, {Model: 0, Machine: 7}, {Model: 0, Machine: 9}, {Model: 2, Machine: 11}, {Model: 0, Machine: 10}, {Model: 1, Machine: 9}, {Model: 0, Machine: 11}},
-		[]api.Policy{policy(2, 1, [4]int{0, 2, 0, 1}, 1, 0), policy(1, 0, [4]int{}, 2, 0), policy(2, 2, [4]int{3, 0, 2, 0}, 2, 1, 0)},
+		[]api.Policy{testfleet.Policy(2, 1, [4]int{0, 2, 0, 1}, 1, 0), testfleet.Policy(1, 0, [4]int{}, 2, 0), testfleet.Policy(2, 2, [4]int{3, 0, 2, 0}, 2, 1, 0)},
 		0, 1, 2)
 }
 
@@ -100,13 +54,13 @@ func randomFleet(r *rand.Rand) api.Fleet {
 	for range 1 + r.Intn(4) {
 		k := 1 + r.Intn(6)
 		spread := [4]int{r.Intn(9), r.Intn(4), r.Intn(4), r.Intn(3)}
-		policies = append(policies, policy(k, r.Intn(min(4, 8-k)+1), spread, r.Perm(len(extents))[:1+r.Intn(len(extents))]...))
+		policies = append(policies, testfleet.Policy(k, r.Intn(min(4, 8-k)+1), spread, r.Perm(len(extents))[:1+r.Intn(len(extents))]...))
 	}
 	volumes := make([]int, r.Intn(13))
 	for i := range volumes {
 		volumes[i] = r.Intn(len(policies))
 	}
-	return build(parents, extents, drives, policies, volumes...)
+	return testfleet.Build(parents, extents, drives, policies, volumes...)
 }
 
 // randomLayout returns a layout of a fleet, most often a shaped one.

@@ -8,6 +8,7 @@ import (
 	"testing"
 
 	"drydock/api"
+	"drydock/testfleet"
 	"drydock/topology"
 )
 
@@ -30,7 +31,7 @@ func TestLoads(t *testing.T) {
 	} {
 		checkNumbers(t, c.name, topology.Loads(f, c.l), c.want)
 	}
-	checkNumbers(t, "no drives", topology.Loads(build(nil, nil, nil, nil), api.Layout{{0, -1}}), nil)
+	checkNumbers(t, "no drives", topology.Loads(testfleet.Build(nil, nil, nil, nil), api.Layout{{0, -1}}), nil)
 }
 
 // P11.3: which layouts are shaped.
@@ -63,7 +64,7 @@ func TestShaped(t *testing.T) {
 			t.Errorf("%s: %t", c.name, got)
 		}
 	}
-	least := build(nil, nil, nil, nil)
+	least := testfleet.Build(nil, nil, nil, nil)
 	if !topology.Shaped(least, nil) || !topology.Shaped(least, api.Layout{}) || topology.Shaped(least, api.Layout{nil}) {
 		t.Error("layouts of a fleet without volumes")
 	}
@@ -73,7 +74,7 @@ func TestShaped(t *testing.T) {
 func TestShapedCodes(t *testing.T) {
 	for k := 1; k <= 6; k++ {
 		for m := 0; m <= min(4, 8-k); m++ {
-			f := build(nil, []int{1}, nil, []api.Policy{policy(1, 0, [4]int{}, 0), policy(k, m, [4]int{}, 0)}, 0, 1)
+			f := testfleet.Build(nil, []int{1}, nil, []api.Policy{testfleet.Policy(1, 0, [4]int{}, 0), testfleet.Policy(k, m, [4]int{}, 0)}, 0, 1)
 			for n := range 12 {
 				l := api.Layout{{-1}, slices.Repeat([]int{-1}, n)}
 				if got := topology.Shaped(f, l); got != (n == k+m) {

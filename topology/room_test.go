@@ -6,6 +6,7 @@ import (
 	"math/rand"
 	"testing"
 
+	"drydock/testfleet"
 	"drydock/topology"
 )
 
@@ -30,8 +31,8 @@ func TestRoom(t *testing.T) {
 	} {
 		checkNumbers(t, c.name, topology.Room(f, c.room), c.want)
 	}
-	checkNumbers(t, "no drives", topology.Room(build(nil, []int{1}, nil, nil), nil), nil)
-	checkNumbers(t, "a room and no drives", topology.Room(build(nil, []int{1}, nil, nil), []int{1}), nil)
+	checkNumbers(t, "no drives", topology.Room(testfleet.Build(nil, []int{1}, nil, nil), nil), nil)
+	checkNumbers(t, "a room and no drives", topology.Room(testfleet.Build(nil, []int{1}, nil, nil), []int{1}), nil)
 }
 
 // P11.2: each drive by itself, with every room around its bounds.

@@ -7,6 +7,7 @@ import (
 	"testing"
 
 	"drydock/api"
+	"drydock/testfleet"
 	"drydock/topology"
 )
 
@@ -45,10 +46,10 @@ func TestDrivesAndChildren(t *testing.T) {
 
 // P11.1: a fleet without drives, and one without anything.
 func TestEmptyTree(t *testing.T) {
-	f := build([]int{0, 1}, []int{1}, nil, nil)
+	f := testfleet.Build([]int{0, 1}, []int{1}, nil, nil)
 	checkNumbers(t, "Drives of a fleet without drives", topology.Drives(f, 0), nil)
 	checkNumbers(t, "Children of a fleet without drives", topology.Children(f, 1), []int{2})
-	least := build(nil, nil, nil, nil)
+	least := testfleet.Build(nil, nil, nil, nil)
 	checkNumbers(t, "Drives of the least fleet", topology.Drives(least, 0), nil)
 	checkNumbers(t, "Children of the least fleet", topology.Children(least, 0), nil)
 	if topology.At(f, 0, 0) != -1 || topology.At(least, 0, 0) != -1 {
@@ -69,7 +70,7 @@ func TestFullTree(t *testing.T) {
 	for i := range 24 {
 		drives = append(drives, api.Drive{Machine: 39 - i})
 	}
-	f := build(parents, []int{1}, drives, nil)
+	f := testfleet.Build(parents, []int{1}, drives, nil)
 	for drive := range f.Drives {
 		for level, want := range []int{0, 1, 2, 3, 39 - drive} {
 			if got := topology.At(f, drive, level); got != want {

@@ -7,6 +7,7 @@ import (
 	"testing"
 
 	"drydock/api"
+	"drydock/testfleet"
 	"drydock/topology"
 )
 
@@ -55,7 +56,7 @@ func TestViolations(t *testing.T) {
 
 // P11.4: the example of the chapter.
 func TestExample(t *testing.T) {
-	f := build([]int{0, 1, 2, 3, 3, 3}, []int{1}, []api.Drive{{Machine: 4}, {Machine: 5}, {Machine: 6}}, []api.Policy{policy(2, 1, [4]int{0, 0, 2, 0}, 0)}, 0)
+	f := testfleet.Build([]int{0, 1, 2, 3, 3, 3}, []int{1}, []api.Drive{{Machine: 4}, {Machine: 5}, {Machine: 6}}, []api.Policy{testfleet.Policy(2, 1, [4]int{0, 0, 2, 0}, 0)}, 0)
 	checkViolations(t, "2 + 1 in one rack", f, api.Layout{{0, 1, 2}}, nil, []api.Violation{{Kind: api.BadSpread, Volume: 0, Where: 3}})
 }
 
@@ -71,7 +72,7 @@ func TestSpreads(t *testing.T) {
 		for bound := 0; bound <= 8; bound++ {
 			spread := [4]int{}
 			spread[level-1] = bound
-			f := build(parents, []int{1}, drives, []api.Policy{policy(4, 4, spread, 0)}, 0)
+			f := testfleet.Build(parents, []int{1}, drives, []api.Policy{testfleet.Policy(4, 4, spread, 0)}, 0)
 			for n := 0; n <= 8; n++ {
 				var row []int
 				for i := range 8 {
@@ -95,14 +96,14 @@ func TestSpreads(t *testing.T) {
 // P11.4: the domains with too many fragments follow each other by their indices, not by their levels, and all kinds of a volume come before those of the next one.
 func TestSpreadsInOrder(t *testing.T) {
 	drives := []api.Drive{{Machine: 8}, {Machine: 4}, {Machine: 8}, {Machine: 4}}
-	f := build([]int{0, 1, 2, 3, 0, 5, 6, 7}, []int{1}, drives, []api.Policy{policy(4, 0, [4]int{1, 1, 1, 1}, 0), policy(2, 2, [4]int{4, 3, 4, 3}, 0)}, 0, 1)
+	f := testfleet.Build([]int{0, 1, 2, 3, 0, 5, 6, 7}, []int{1}, drives, []api.Policy{testfleet.Policy(4, 0, [4]int{1, 1, 1, 1}, 0), testfleet.Policy(2, 2, [4]int{4, 3, 4, 3}, 0)}, 0, 1)
 	want := listed("spread 0 1, spread 0 2, spread 0 3, spread 0 4, spread 0 5, spread 0 6, spread 0 7, spread 0 8, twice 1 2, spread 1 6, spread 1 8, load -1 2")
 	checkViolations(t, "two sites", f, api.Layout{{3, 2, 1, 0}, {2, 2, 2, 2}}, nil, want)
 }
 
 // P11.4: a fragment without a drive is in no domain and on no drive, and one that shares its drive counts in its domains.
 func TestSpreadOfRepeatedDrives(t *testing.T) {
-	f := build([]int{0, 1, 2, 3}, []int{16}, []api.Drive{{Machine: 4}, {Machine: 4}}, []api.Policy{policy(2, 1, [4]int{0, 0, 0, 2}, 0)}, 0)
+	f := testfleet.Build([]int{0, 1, 2, 3}, []int{16}, []api.Drive{{Machine: 4}, {Machine: 4}}, []api.Policy{testfleet.Policy(2, 1, [4]int{0, 0, 0, 2}, 0)}, 0)
 	checkViolations(t, "two", f, api.Layout{{-1, 0, 0}}, nil, listed("home 0 0, twice 0 0"))
 	checkViolations(t, "three", f, api.Layout{{1, 1, 1}}, nil, listed("twice 0 1, spread 0 4"))
 	checkViolations(t, "three on two", f, api.Layout{{1, 0, 1}}, nil, listed("twice 0 1, spread 0 4"))
@@ -119,7 +120,7 @@ func TestModels(t *testing.T) {
 			}
 		}
 		drives := []api.Drive{{Model: 0, Machine: 4}, {Model: 1, Machine: 4}, {Model: 2, Machine: 4}, {Model: 3, Machine: 4}}
-		f := build([]int{0, 1, 2, 3}, []int{1, 1, 1, 1}, drives, []api.Policy{policy(3, 1, [4]int{}, models...)}, 0)
+		f := testfleet.Build([]int{0, 1, 2, 3}, []int{1, 1, 1, 1}, drives, []api.Policy{testfleet.Policy(3, 1, [4]int{}, models...)}, 0)
 		var want []api.Violation
 		for i := range 4 {
 			// Fragment i lies on drive 3 - i, of the model 3 - i.
@@ -135,7 +136,7 @@ func TestModels(t *testing.T) {
 func TestLoadsAndRooms(t *testing.T) {
 	for load := 0; load <= 12; load++ {
 		for extents := 1; extents <= 13; extents++ {
-			f := build([]int{0, 1, 2, 3}, []int{extents, 16}, []api.Drive{{Model: 1, Machine: 4}, {Model: 0, Machine: 4}}, []api.Policy{policy(1, 0, [4]int{}, 0, 1)}, 0, 0, 0, 0, 0, 0, 0, 0, 0, 0, 0, 0)
+			f := testfleet.Build([]int{0, 1, 2, 3}, []int{extents, 16}, []api.Drive{{Model: 1, Machine: 4}, {Model: 0, Machine: 4}}, []api.Policy{testfleet.Policy(1, 0, [4]int{}, 0, 1)}, 0, 0, 0, 0, 0, 0, 0, 0, 0, 0, 0, 0)
 			var l api.Layout
 			for i := range 12 {
 				l = append(l, []int{0})
@@ -163,7 +164,7 @@ func TestLoadsAndRooms(t *testing.T) {
 // P11.4: all rows of up to three elements for the first of two volumes, with some for the second one and some rooms, compared with the model.
 func TestAllRows(t *testing.T) {
 	drives := []api.Drive{{Model: 0, Machine: 5}, {Model: 1, Machine: 4}, {Model: 1, Machine: 5}}
-	f := build([]int{0, 1, 2, 3, 3}, []int{2, 1}, drives, []api.Policy{policy(1, 1, [4]int{0, 0, 0, 1}, 1), policy(1, 0, [4]int{}, 0, 1)}, 0, 1)
+	f := testfleet.Build([]int{0, 1, 2, 3, 3}, []int{2, 1}, drives, []api.Policy{testfleet.Policy(1, 1, [4]int{0, 0, 0, 1}, 1), testfleet.Policy(1, 0, [4]int{}, 0, 1)}, 0, 1)
 	rows := [][]int{nil}
 	for i := 0; len(rows[i]) < 3; i++ {
 		for x := -2; x <= 3; x++ {
