@@ -87,7 +87,7 @@ func TestRandomCuts(t *testing.T) {
 	borders := 0
 	for range 3000 {
 		f := smallFleet(r)
-		room := randomRoom(r, f)
+		room := testfleet.RandomRoom(r.Intn, f)
 		c, found := feasible.Why(f, room)
 		if !found {
 			c = randomCut(r, f)
@@ -128,7 +128,7 @@ func flip(r *rand.Rand, f api.Fleet, c api.Cut) {
 
 // P14.3: of a cut that proves something, each list a little longer and a little shorter; and lists that have the right length only together.
 func TestShapesOfCuts(t *testing.T) {
-	f, room := sample(), []int{1, 1, 1, 3}
+	f, room := testfleet.Sample(), []int{1, 1, 1, 3}
 	proof, found := feasible.Why(f, room)
 	if !found {
 		t.Fatal("no cut")

@@ -11,16 +11,6 @@ import (
 	"drydock/topology"
 )
 
-// sample returns a fleet whose domains and drives do not stand in depth-first order: two sites, 1 and 2, with the machines 8 and 9 and the machine 7. Volume 0 has two fragments, and volume 1 three, which may not lie on drive 1.
-func sample() api.Fleet {
-	return testfleet.Build(
-		[]int{0, 0, 2, 1, 3, 4, 5, 6, 6},
-		[]int{3, 1},
-		[]api.Drive{{Model: 0, Machine: 9}, {Model: 1, Machine: 7}, {Model: 0, Machine: 8}, {Model: 0, Machine: 7}},
-		[]api.Policy{testfleet.Policy(2, 1, [4]int{2, 0, 0, 1}, 0), testfleet.Policy(1, 1, [4]int{0, 1, 2, 0}, 1, 0)},
-		1, 0)
-}
-
 // randomFleet returns a valid fleet with at most so many domains, drives, volumes and fragments of a volume, whose domains and drives stand in any order.
 func randomFleet(r *rand.Rand, domains, drives, volumes, fragments int) api.Fleet {
 	return testfleet.Random(r.Intn, testfleet.Limits{Domains: domains, Drives: drives, Volumes: volumes, Fragments: fragments})
@@ -29,18 +19,6 @@ func randomFleet(r *rand.Rand, domains, drives, volumes, fragments int) api.Flee
 // smallFleet returns a fleet so small that all its layouts can be tried.
 func smallFleet(r *rand.Rand) api.Fleet {
 	return randomFleet(r, 14, 6, 3, 4)
-}
-
-// randomRoom returns rooms for a fleet, now and then not one for each drive.
-func randomRoom(r *rand.Rand, f api.Fleet) []int {
-	room := make([]int, len(f.Drives))
-	for i := range room {
-		room[i] = r.Intn(5) - 1
-	}
-	if r.Intn(10) == 0 {
-		room = append(room, 3, 4)[:r.Intn(len(room)+3)]
-	}
-	return room
 }
 
 // checkNetwork checks that a fleet has this placement network.

@@ -9,6 +9,7 @@ import (
 	"drydock/api"
 	"drydock/feasible"
 	"drydock/maxflow"
+	"drydock/testfleet"
 	"drydock/topology"
 )
 
@@ -18,7 +19,7 @@ func TestLayoutsAreFlows(t *testing.T) {
 	counts := map[bool]int{}
 	for range 3000 {
 		f := smallFleet(r)
-		room := randomRoom(r, f)
+		room := testfleet.RandomRoom(r.Intn, f)
 		n, _ := feasible.Network(f, room)
 		_, value, _, err := maxflow.Solve(n)
 		placed := exists(f, room)
@@ -51,12 +52,12 @@ func TestConstraintsAreCaps(t *testing.T) {
 	counts := map[bool]int{}
 	for range 6000 {
 		f := smallFleet(r)
-		room := randomRoom(r, f)
+		room := testfleet.RandomRoom(r.Intn, f)
 		var l api.Layout
 		for v := range f.Volumes {
-			allowed := slices.DeleteFunc(r.Perm(len(f.Drives)), func(d int) bool { return !allows(f, v, d) })
-			if len(allowed) >= fragmentsOf(f, v) {
-				l = append(l, allowed[:fragmentsOf(f, v)])
+			allowed := slices.DeleteFunc(r.Perm(len(f.Drives)), func(d int) bool { return !testfleet.Allows(f, v, d) })
+			if len(allowed) >= testfleet.Fragments(f, v) {
+				l = append(l, allowed[:testfleet.Fragments(f, v)])
 			}
 		}
 		if len(l) == 0 || len(l) < len(f.Volumes) {
@@ -77,7 +78,7 @@ func TestNoCutAgainstLayouts(t *testing.T) {
 	cuts := 0
 	for range 300 {
 		f := randomFleet(r, api.MaxDomains, api.MaxDrives, api.MaxVolumes, api.MaxFragments)
-		l := hide(r, &f)
+		l := testfleet.Hide(r.Intn, &f)
 		if l == nil {
 			continue
 		}

@@ -4,22 +4,17 @@ import (
 	"slices"
 
 	"drydock/api"
+	"drydock/testfleet"
 	"drydock/topology"
 )
 
 // The tests say in the words of the chapter, apart from the program, what the placement network is, which cuts prove something, and which layouts there are.
 
-// fragmentsOf is n(v): the number of fragments of a volume.
-func fragmentsOf(f api.Fleet, v int) int {
-	p := f.Policies[f.Volumes[v].Policy]
-	return p.K + p.M
-}
-
 // sumOfAll is the sum of all n(v).
 func sumOfAll(f api.Fleet) int {
 	sum := 0
 	for v := range f.Volumes {
-		sum += fragmentsOf(f, v)
+		sum += testfleet.Fragments(f, v)
 	}
 	return sum
 }
@@ -29,12 +24,7 @@ func bound(f api.Fleet, v, i int) int {
 	if most := f.Policies[f.Volumes[v].Policy].Spread[f.Domains[i].Level]; most > 0 {
 		return most
 	}
-	return fragmentsOf(f, v)
-}
-
-// allows reports whether the policy of a volume allows the model of a drive.
-func allows(f api.Fleet, v, d int) bool {
-	return slices.Contains(f.Policies[f.Volumes[v].Policy].Models, f.Drives[d].Model)
+	return testfleet.Fragments(f, v)
 }
 
 // network is Network.
@@ -48,12 +38,12 @@ func network(f api.Fleet, room []int) api.Network {
 	}
 	out := api.Network{Nodes: 2 + V*D + len(f.Drives), Source: 0, Sink: 1}
 	for v := range f.Volumes {
-		out.Arcs = append(out.Arcs, api.Arc{From: 0, To: 2 + v, Cap: fragmentsOf(f, v)})
+		out.Arcs = append(out.Arcs, api.Arc{From: 0, To: 2 + v, Cap: testfleet.Fragments(f, v)})
 		for i := 1; i < D; i++ {
 			out.Arcs = append(out.Arcs, api.Arc{From: in(v, f.Domains[i].Parent), To: in(v, i), Cap: bound(f, v, i)})
 		}
 		for d, drive := range f.Drives {
-			if allows(f, v, d) {
+			if testfleet.Allows(f, v, d) {
 				out.Arcs = append(out.Arcs, api.Arc{From: in(v, drive.Machine), To: 2 + V*D + d, Cap: 1})
 			}
 		}
@@ -83,7 +73,7 @@ func capacity(f api.Fleet, room []int, c api.Cut) int {
 	for v := range f.Volumes {
 		inside := append([]bool{c.Volumes[v]}, c.Domains[v]...)
 		if !inside[0] {
-			sum += fragmentsOf(f, v)
+			sum += testfleet.Fragments(f, v)
 		}
 		for i, d := range f.Domains {
 			if i > 0 && inside[d.Parent] && !inside[i] {
@@ -91,7 +81,7 @@ func capacity(f api.Fleet, room []int, c api.Cut) int {
 			}
 		}
 		for d, drive := range f.Drives {
-			if allows(f, v, d) && inside[drive.Machine] && !c.Drives[d] {
+			if testfleet.Allows(f, v, d) && inside[drive.Machine] && !c.Drives[d] {
 				sum++
 			}
 		}
@@ -123,7 +113,7 @@ func completes(f api.Fleet, room []int, l api.Layout, left []int) bool {
 				row, rest[d] = append(row, d), rest[d]-1
 			}
 		}
-		if len(row) == fragmentsOf(f, len(l)) && slices.Min(rest) >= 0 && topology.Holds(alone, api.Layout{row}, nil) {
+		if len(row) == testfleet.Fragments(f, len(l)) && slices.Min(rest) >= 0 && topology.Holds(alone, api.Layout{row}, nil) {
 			if completes(f, room, append(slices.Clone(l), row), rest) {
 				return true
 			}
@@ -137,7 +127,7 @@ func flowOf(f api.Fleet, l api.Layout, room []int) []int {
 	var flow []int
 	loads := make([]int, len(f.Drives))
 	for v, row := range l {
-		flow = append(flow, fragmentsOf(f, v))
+		flow = append(flow, testfleet.Fragments(f, v))
 		for i := 1; i < len(f.Domains); i++ {
 			drives, inside := topology.Drives(f, i), 0
 			for _, d := range row {
@@ -153,7 +143,7 @@ func flowOf(f api.Fleet, l api.Layout, room []int) []int {
 				lies = 1
 			}
 			loads[d] += lies
-			if allows(f, v, d) {
+			if testfleet.Allows(f, v, d) {
 				flow = append(flow, lies)
 			}
 		}

@@ -55,7 +55,7 @@ func TestNetworkOfSample(t *testing.T) {
 		for drive, most := range c.caps {
 			want.Arcs = append(want.Arcs, api.Arc{From: 22 + drive, To: 1, Cap: most})
 		}
-		checkNetwork(t, c.name, sample(), c.room, want)
+		checkNetwork(t, c.name, testfleet.Sample(), c.room, want)
 	}
 }
 
@@ -126,32 +126,17 @@ func TestRandomNetworks(t *testing.T) {
 	r := rand.New(rand.NewSource(1))
 	for range 400 {
 		f := randomFleet(r, 5+r.Intn(36), r.Intn(25), r.Intn(13), 1+r.Intn(8))
-		room := randomRoom(r, f)
+		room := testfleet.RandomRoom(r.Intn, f)
 		checkNetwork(t, fmt.Sprint(f), f, room, network(f, room))
 	}
 }
 
 // P14.1: the greatest fleet has a network within the limits of package maxflow.
 func TestGreatestNetwork(t *testing.T) {
-	f := greatestFleet()
+	f := testfleet.Greatest()
 	n, err := feasible.Network(f, nil)
 	if err != api.OK || n.Nodes != 506 || len(n.Arcs) != 792 || !maxflow.Valid(n) {
 		t.Errorf("%d nodes, %d arcs and the error %d", n.Nodes, len(n.Arcs), err)
 	}
 	checkNetwork(t, "the greatest fleet", f, nil, network(f, nil))
-}
-
-// greatestFleet returns a fleet of as many domains, drives, volumes and fragments as there may be, in which every room of a drive is needed.
-func greatestFleet() api.Fleet {
-	parents := []int{0, 1, 2, 3, 0, 5, 6, 7}
-	machines := []int{4, 8}
-	for i := len(parents); i < api.MaxDomains-1; i++ {
-		machines = append(machines, i+1)
-		parents = append(parents, 3+4*(i%2))
-	}
-	drives := make([]api.Drive, api.MaxDrives)
-	for i := range drives {
-		drives[i].Machine = machines[i]
-	}
-	return testfleet.Build(parents, []int{4}, drives, []api.Policy{testfleet.Policy(6, 2, [4]int{4, 0, 0, 1}, 0)}, make([]int, api.MaxVolumes)...)
 }

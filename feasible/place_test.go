@@ -78,7 +78,7 @@ func TestSample(t *testing.T) {
 		{"no domains", nil, func(f *api.Fleet) { f.Drives, f.Domains = nil, f.Domains[:1] }, false},
 		{"no domains and no volumes", nil, func(f *api.Fleet) { f.Drives, f.Domains, f.Volumes = nil, f.Domains[:1], nil }, true},
 	} {
-		f := sample()
+		f := testfleet.Sample()
 		if c.change != nil {
 			c.change(&f)
 		}
@@ -92,30 +92,6 @@ func TestSample(t *testing.T) {
 	}
 }
 
-// layouts calls visit for every layout of a fleet, also those with fragments without a drive.
-func layouts(f api.Fleet, visit func(l api.Layout)) {
-	var l api.Layout
-	var places []*int
-	for v := range f.Volumes {
-		row := slices.Repeat([]int{-1}, fragmentsOf(f, v))
-		for i := range row {
-			places = append(places, &row[i])
-		}
-		l = append(l, row)
-	}
-	for more := true; more; {
-		visit(l)
-		more = false
-		for _, place := range places {
-			if *place++; *place < len(f.Drives) {
-				more = true
-				break
-			}
-			*place = -1
-		}
-	}
-}
-
 // P14.2: against all layouts of fleets with up to three drives.
 func TestAllLayouts(t *testing.T) {
 	r := rand.New(rand.NewSource(2))
@@ -125,10 +101,10 @@ func TestAllLayouts(t *testing.T) {
 		if sumOfAll(f) > 5 {
 			continue
 		}
-		room, placed := randomRoom(r, f), false
-		layouts(f, func(l api.Layout) {
+		room, placed := testfleet.RandomRoom(r.Intn, f), false
+		for l := range testfleet.Layouts(f) {
 			placed = placed || topology.Holds(f, l, room)
-		})
+		}
 		if exists(f, room) != placed {
 			t.Errorf("%v: the model of the tests is wrong", f)
 		}
@@ -148,7 +124,7 @@ func TestRandomFleets(t *testing.T) {
 		f := smallFleet(r)
 		var room []int
 		if r.Intn(2) == 0 {
-			room = randomRoom(r, f)
+			room = testfleet.RandomRoom(r.Intn, f)
 		}
 		placed := exists(f, room)
 		checkEither(t, fmt.Sprint(f, room), f, room, placed)
@@ -187,7 +163,7 @@ func TestHiddenLayouts(t *testing.T) {
 	fragments, models := 0, 0
 	for range 150 {
 		f := randomFleet(r, api.MaxDomains, api.MaxDrives, api.MaxVolumes, api.MaxFragments)
-		l := hide(r, &f)
+		l := testfleet.Hide(r.Intn, &f)
 		if l == nil {
 			continue
 		}
@@ -213,38 +189,6 @@ func TestHiddenLayouts(t *testing.T) {
 	}
 }
 
-// hide gives the drives of a fleet many extents, chooses a random layout, and bounds the policies so that just this layout and such as it are allowed. It returns nil if there are too few drives.
-func hide(r *rand.Rand, f *api.Fleet) api.Layout {
-	for i := range f.Models {
-		f.Models[i].Extents = api.MaxExtents
-	}
-	for i := range f.Policies {
-		f.Policies[i].Spread, f.Policies[i].Models = [api.Levels]int{}, []int{0}
-	}
-	var l api.Layout
-	for v, volume := range f.Volumes {
-		if fragmentsOf(*f, v) > len(f.Drives) {
-			return nil
-		}
-		row, p := r.Perm(len(f.Drives))[:fragmentsOf(*f, v)], &f.Policies[volume.Policy]
-		for _, d := range row {
-			if !slices.Contains(p.Models, f.Drives[d].Model) {
-				p.Models = append(p.Models, f.Drives[d].Model)
-			}
-		}
-		for i, d := range f.Domains[1:] {
-			drives := topology.Drives(*f, i+1)
-			outside := slices.DeleteFunc(slices.Clone(row), func(x int) bool { return slices.Contains(drives, x) })
-			p.Spread[d.Level] = max(p.Spread[d.Level], len(row)-len(outside))
-		}
-		l = append(l, row)
-	}
-	if !topology.Holds(*f, l, nil) {
-		panic("the hidden layout does not hold")
-	}
-	return l
-}
-
 // forbid returns the fleet without one model of the policy of a volume, if the drives of the other models that the policy allows are too few, and otherwise no fleet.
 func forbid(f api.Fleet, v int) api.Fleet {
 	f.Policies = slices.Clone(f.Policies)
@@ -256,7 +200,7 @@ func forbid(f api.Fleet, v int) api.Fleet {
 			left++
 		}
 	}
-	if len(p.Models) == 0 || left >= fragmentsOf(f, v) {
+	if len(p.Models) == 0 || left >= testfleet.Fragments(f, v) {
 		return api.Fleet{}
 	}
 	return f
@@ -264,7 +208,7 @@ func forbid(f api.Fleet, v int) api.Fleet {
 
 // P14.2 and P14.3: the greatest fleet has room for all fragments and for no more.
 func TestGreatestFleet(t *testing.T) {
-	f := greatestFleet()
+	f := testfleet.Greatest()
 	checkPlaced(t, "the greatest fleet", f, nil)
 	for drive := range f.Drives {
 		room := slices.Repeat([]int{4}, len(f.Drives))

@@ -1,7 +1,6 @@
 package feasible_test
 
 import (
-	"fmt"
 	"slices"
 	"testing"
 
@@ -39,26 +38,14 @@ func checkInvalid(t *testing.T, name string, f api.Fleet) {
 
 // P14.1 to P14.3: fleets that are not valid, also where the fault has nothing to do with the placement.
 func TestRefusedFleets(t *testing.T) {
-	for name, f := range testfleet.Invalid(sample()) {
+	for name, f := range testfleet.Invalid(testfleet.Sample()) {
 		checkInvalid(t, name, f)
 	}
 }
 
 // P14.1 to P14.3: more than the limits allow, of each kind of things by itself.
 func TestTooLarge(t *testing.T) {
-	for name, add := range map[string]func(f *api.Fleet){
-		"domains": func(f *api.Fleet) {
-			site := f.Domains[1]
-			site.Name = "more"
-			f.Domains = append(f.Domains, site)
-		},
-		"drives": func(f *api.Fleet) { f.Drives = append(f.Drives, api.Drive{Name: "more", Machine: 4}) },
-		"volumes": func(f *api.Fleet) {
-			f.Volumes = append(f.Volumes, api.Volume{Name: "more"})
-		},
-	} {
-		f := greatestFleet()
-		add(&f)
-		checkInvalid(t, fmt.Sprint("too many ", name), f)
+	for name, f := range testfleet.TooLarge() {
+		checkInvalid(t, name, f)
 	}
 }

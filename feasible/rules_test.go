@@ -74,7 +74,7 @@ func TestResultsApart(t *testing.T) {
 	r := rand.New(rand.NewSource(10))
 	for range 300 {
 		f := randomFleet(r, 5+r.Intn(20), 12, 6, 5)
-		room, c := randomRoom(r, f), randomCut(r, f)
+		room, c := testfleet.RandomRoom(r.Intn, f), randomCut(r, f)
 		kept := fmt.Sprint(f, room, c)
 		first, second := answers(f, room, c), answers(f, room, c)
 		text := fmt.Sprint(first)
@@ -94,7 +94,7 @@ func TestResultsApart(t *testing.T) {
 // R2: what is written over arguments changes no result that was returned before, and nothing is written behind their elements.
 func TestArgumentsNotKept(t *testing.T) {
 	for _, last := range []int{1, 3} {
-		f, room := sample(), []int{1, 1, 1, last, 77}
+		f, room := testfleet.Sample(), []int{1, 1, 1, last, 77}
 		c := cutOf(f, 1<<12-1)
 		lists := append([][]bool{c.Volumes, c.Drives}, c.Domains...)
 		spare := make([][]bool, len(lists))
@@ -122,13 +122,12 @@ func TestArgumentsNotKept(t *testing.T) {
 
 // R3: nil and empty lists are the same in arguments.
 func TestEmptyLists(t *testing.T) {
-	f, empty := testfleet.Build(nil, nil, nil, nil), testfleet.Build(nil, nil, nil, nil)
-	empty.Models, empty.Drives, empty.Policies, empty.Volumes = []api.Model{}, []api.Drive{}, []api.Policy{}, []api.Volume{}
+	f, empty := testfleet.Nothing()
 	c := api.Cut{Volumes: []bool{}, Domains: [][]bool{}, Drives: []bool{}}
 	if got, want := fmt.Sprint(answers(empty, []int{}, c)), fmt.Sprint(answers(f, nil, api.Cut{})); got != want {
 		t.Errorf("%s, and for nil %s", got, want)
 	}
-	f = sample()
+	f = testfleet.Sample()
 	if got, want := fmt.Sprint(answers(f, []int{}, c)), fmt.Sprint(answers(f, nil, api.Cut{})); got != want {
 		t.Errorf("of the sample: %s, and for nil %s", got, want)
 	}
@@ -139,7 +138,7 @@ func TestOtherFieldsDoNotCount(t *testing.T) {
 	r := rand.New(rand.NewSource(11))
 	for range 200 {
 		f := smallFleet(r)
-		room, c := randomRoom(r, f), randomCut(r, f)
+		room, c := testfleet.RandomRoom(r.Intn, f), randomCut(r, f)
 		want := fmt.Sprint(answers(f, room, c))
 		if got := fmt.Sprint(answers(testfleet.Disguise(f), room, c)); got != want {
 			t.Errorf("%s, and before %s", got, want)
@@ -150,7 +149,7 @@ func TestOtherFieldsDoNotCount(t *testing.T) {
 // R1 and R8: every call ends, whatever the rooms and cuts are.
 func TestAnyArguments(t *testing.T) {
 	const many = 1 << 20
-	f := sample()
+	f := testfleet.Sample()
 	wild := []int{math.MinInt, math.MinInt + 1, -1 << 32, -1, 0, 1, 2, 3, 4, 1 << 31, 1 << 32, math.MaxInt - 1, math.MaxInt}
 	r := rand.New(rand.NewSource(12))
 	for range 3000 {

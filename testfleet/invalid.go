@@ -97,3 +97,13 @@ func faultsOfPolicies() map[string]func(f *api.Fleet) {
 		"too many volumes":   func(f *api.Fleet) { f.Volumes = slices.Repeat(f.Volumes, 13) },
 	}
 }
+
+// TooLarge returns fleets that have one domain, drive or volume more than the greatest fleet.
+func TooLarge() map[string]api.Fleet {
+	domains, drives, volumes := Greatest(), Greatest(), Greatest()
+	domains.Domains = append(domains.Domains, domains.Domains[1])
+	domains.Domains[api.MaxDomains].Name = "more"
+	drives.Drives = append(drives.Drives, api.Drive{Name: "more", Machine: drives.Drives[0].Machine})
+	volumes.Volumes = append(volumes.Volumes, api.Volume{Name: "more"})
+	return map[string]api.Fleet{"too many domains": domains, "too many drives": drives, "too many volumes": volumes}
+}

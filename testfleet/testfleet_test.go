@@ -9,6 +9,7 @@ import (
 	"drydock/api"
 	"drydock/fleet"
 	"drydock/testfleet"
+	"drydock/topology"
 )
 
 // Random fleets keep to their limits and reach them, and their drives and domains stand in any order.
@@ -98,5 +99,94 @@ func TestDisguise(t *testing.T) {
 				t.Errorf("%v became %v", p, q)
 			}
 		}
+	}
+}
+
+// Layouts visits each layout once, and it ends when no more are wanted.
+func TestLayouts(t *testing.T) {
+	f := testfleet.Build([]int{0, 1, 2, 3}, []int{1}, []api.Drive{{Machine: 4}, {Machine: 4}}, []api.Policy{testfleet.Policy(2, 1, [4]int{}, 0), testfleet.Policy(1, 0, [4]int{}, 0)}, 0, 1)
+	seen := map[string]bool{}
+	for l := range testfleet.Layouts(f) {
+		seen[fmt.Sprint(l)] = topology.Shaped(f, l)
+	}
+	if len(seen) != 81 || !seen["[[-1 -1 -1] [-1]]"] || !seen["[[1 0 1] [-1]]"] || !seen["[[1 1 1] [1]]"] {
+		t.Errorf("%d layouts: %v", len(seen), seen)
+	}
+	count := 0
+	for range testfleet.Layouts(f) {
+		if count++; count == 3 {
+			break
+		}
+	}
+	if count != 3 {
+		t.Errorf("%d layouts", count)
+	}
+	for l := range testfleet.Layouts(testfleet.Build(nil, nil, nil, nil)) {
+		if count++; len(l) > 0 {
+			t.Errorf("%v of no volumes", l)
+		}
+	}
+	if count != 4 {
+		t.Errorf("%d layouts of no volumes", count-3)
+	}
+}
+
+// Random layouts have the right shape; some leave a fragment without a drive, have two of a volume on one, or hold. Rooms are one for each drive, and now and then not.
+func TestRandomLayouts(t *testing.T) {
+	r := rand.New(rand.NewSource(4))
+	kinds, other := map[int]int{}, 0
+	for range 2000 {
+		f := testfleet.Random(r.Intn, testfleet.Limits{Domains: 12, Drives: 6, Volumes: 3, Fragments: 4})
+		l := testfleet.RandomLayout(r.Intn, f)
+		for _, v := range topology.Violations(f, l, nil) {
+			kinds[v.Kind]++
+		}
+		if topology.Holds(f, l, nil) && len(l) > 0 {
+			kinds[0]++
+		}
+		if len(testfleet.RandomRoom(r.Intn, f)) != len(f.Drives) {
+			other++
+		}
+	}
+	if kinds[api.BadShape] > 0 || kinds[0] < 50 || kinds[api.BadHome] < 50 || kinds[api.BadTwice] < 50 || other < 50 {
+		t.Errorf("layouts that hold and violations: %v, and %d times other rooms", kinds, other)
+	}
+}
+
+// The hidden layout holds with just the room that it needs.
+func TestHide(t *testing.T) {
+	r := rand.New(rand.NewSource(5))
+	hidden := 0
+	for range 200 {
+		f := testfleet.Random(r.Intn, testfleet.Limits{Domains: 40, Drives: 24, Volumes: 12, Fragments: 8})
+		if l := testfleet.Hide(r.Intn, &f); l != nil {
+			hidden++
+			if !topology.Holds(f, l, topology.Loads(f, l)) || len(l) != len(f.Volumes) {
+				t.Errorf("%v does not hold in %v", l, f)
+			}
+		}
+	}
+	if hidden < 50 {
+		t.Errorf("%d layouts", hidden)
+	}
+}
+
+// The greatest fleet is as large as it may be.
+func TestGreatest(t *testing.T) {
+	f := testfleet.Greatest()
+	if len(f.Domains) != api.MaxDomains || len(f.Drives) != api.MaxDrives || len(f.Volumes) != api.MaxVolumes || testfleet.Fragments(f, 11) != api.MaxFragments {
+		t.Errorf("%v", f)
+	}
+}
+
+// A fleet that is too large has one thing too many, and is not valid; a fleet of nothing is, with nil and with empty lists.
+func TestTooLargeAndNothing(t *testing.T) {
+	for name, f := range testfleet.TooLarge() {
+		if over := len(f.Domains) + len(f.Drives) + len(f.Volumes) - api.MaxDomains - api.MaxDrives - api.MaxVolumes; over != 1 || fleet.Validate(f) != api.ErrArg {
+			t.Errorf("%s: %d", name, over)
+		}
+	}
+	if none, empty := testfleet.Nothing(); fleet.Validate(none) != api.OK || fleet.Validate(empty) != api.OK || none.Drives != nil || empty.Drives == nil {
+		t.Errorf("%v and %v", none, empty)
 	}
 }

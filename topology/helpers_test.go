@@ -137,12 +137,3 @@ func checkViolations(t *testing.T, name string, f api.Fleet, l api.Layout, room 
 		t.Errorf("%s: Holds of %v with the rooms %v: %t", name, l, room, got)
 	}
 }
-
-// clone returns a copy of a layout.
-func clone(l api.Layout) api.Layout {
-	var out api.Layout
-	for _, row := range l {
-		out = append(out, slices.Clone(row))
-	}
-	return out
-}

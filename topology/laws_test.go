@@ -7,6 +7,7 @@ import (
 	"testing"
 
 	"drydock/api"
+	"drydock/testfleet"
 	"drydock/topology"
 )
 
@@ -99,7 +100,7 @@ func TestMovedFragments(t *testing.T) {
 		for range 20 {
 			v, drive := r.Intn(len(l)), r.Intn(len(f.Drives))
 			i := r.Intn(len(l[v]))
-			moved := clone(l)
+			moved := testfleet.CloneLayout(l)
 			moved[v][i] = drive
 			for _, x := range topology.Violations(f, moved, room) {
 				if slices.Contains(before, x) {
