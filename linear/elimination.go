@@ -4,6 +4,7 @@ import (
 	"slices"
 
 	"drydock/api"
+	"drydock/exact"
 )
 
 // elimination is the state of an elimination in whole numbers (by Bareiss): each row of a matrix is multiplied by a number that makes it whole, and every division leaves no rest.
@@ -20,11 +21,11 @@ type elimination struct {
 //
 // The pivots of earlier rows are not written: all of them would be equal to the last one.
 func eliminate(a [][]api.Frac, columns int) elimination {
-	e := elimination{pivot: integer(1), scale: integer(1)}
+	e := elimination{pivot: exact.Integer(1), scale: exact.Integer(1)}
 	for _, row := range a {
-		row, factor := whole(row)
+		row, factor := exact.Whole(row)
 		e.rows = append(e.rows, row)
-		e.scale = product(e.scale, factor)
+		e.scale = exact.Product(e.scale, factor)
 	}
 	for j := range columns {
 		if e.findPivot(j) {
@@ -37,7 +38,7 @@ func eliminate(a [][]api.Frac, columns int) elimination {
 // findPivot brings a row whose element in column j is not 0 behind the rows that have a pivot, and reports whether there is one.
 func (e *elimination) findPivot(j int) bool {
 	for i := e.rank; i < len(e.rows); i++ {
-		if isZero(e.rows[i][j]) {
+		if exact.IsZero(e.rows[i][j]) {
 			continue
 		}
 		if i != e.rank {
@@ -65,7 +66,7 @@ func (e *elimination) clearColumn(j int) {
 func subtract(row, top []api.Frac, last api.Frac) {
 	first := row[0]
 	for k, x := range row {
-		row[k] = quotient(difference(product(top[0], x), product(first, top[k])), last)
+		row[k] = exact.Quotient(exact.Difference(exact.Product(top[0], x), exact.Product(first, top[k])), last)
 	}
 }
 
@@ -83,28 +84,8 @@ func solution(a, right [][]api.Frac) ([][]api.Frac, api.Errno) {
 	out := make([][]api.Frac, n)
 	for i, row := range e.rows {
 		for _, x := range row[n:] {
-			out[i] = append(out[i], quotient(x, e.pivot))
+			out[i] = append(out[i], exact.Quotient(x, e.pivot))
 		}
 	}
 	return out, api.OK
-}
-
-// whole returns a multiple of row that consists of whole numbers, and the factor. The factor is the least common multiple of the denominators.
-func whole(row []api.Frac) ([]api.Frac, api.Frac) {
-	factor := integer(1)
-	for _, x := range row {
-		// The denominator of this product is the part of the denominator of x that the factor does not have yet.
-		missing := product(factor, x).Den
-		factor = product(factor, api.Frac{Num: missing, Den: factor.Den})
-	}
-	out := make([]api.Frac, len(row))
-	for k, x := range row {
-		out[k] = product(factor, x)
-	}
-	return out, factor
-}
-
-// isZero reports whether x, which is in lowest terms, is 0.
-func isZero(x api.Frac) bool {
-	return len(x.Num) == 0
 }

@@ -7,6 +7,7 @@ import (
 	"drydock/api"
 	"drydock/fraction"
 	"drydock/linear"
+	"drydock/testfrac"
 )
 
 // isMatrix reports whether a is a matrix, as the document says it.
@@ -133,7 +134,7 @@ func heavy(rows, columns, weight int) model {
 
 // examples returns matrices of which one or more errors apply to every function, and matrices without errors.
 func examples() []example {
-	most, longest, bad := api.MaxOrder, frac(power(edge-1)), invalid()
+	most, longest, bad := api.MaxOrder, frac(power(edge-1)), testfrac.Invalid()
 	out := []example{
 		{"nil", nil}, {"no rows", [][]api.Frac{}}, {"a row that is nil", [][]api.Frac{nil}}, {"a row without elements", [][]api.Frac{{}}}, {"2 rows that are nil", make([][]api.Frac, 2)},
 		{"a short row", [][]api.Frac{parse("1 2").fracs()[0], parse("3").fracs()[0]}}, {"a long row", [][]api.Frac{parse("1 0").fracs()[0], parse("3 0 1").fracs()[0]}},

@@ -10,7 +10,7 @@ import (
 	"drydock/api"
 	"drydock/fraction"
 	"drydock/linear"
-	"drydock/natural"
+	"drydock/testfrac"
 )
 
 const edge = 32 * api.MaxFracLimbs // binary digits of the longest numerator or denominator
@@ -137,11 +137,8 @@ func (m model) fracs() [][]api.Frac {
 // disguised returns the matrix with the elements of m in other forms.
 func (m model) disguised(r *rand.Rand) [][]api.Frac {
 	out := m.fracs()
-	for _, row := range out {
-		for j, x := range row {
-			list := forms(x)
-			row[j] = list[r.Intn(len(list))]
-		}
+	for i, row := range out {
+		out[i] = testfrac.Disguised(r.Intn, row)
 	}
 	return out
 }
@@ -198,33 +195,6 @@ func identical(x, y api.Frac) bool {
 // same reports whether a and b have the same elements, part by part.
 func same(a, b [][]api.Frac) bool {
 	return slices.EqualFunc(a, b, func(x, y []api.Frac) bool { return slices.EqualFunc(x, y, identical) })
-}
-
-// forms returns fractions with the value of x: in lowest terms, with common factors, with zero limbs at the end, and 0 with a sign.
-func forms(x api.Frac) []api.Frac {
-	out := []api.Frac{x}
-	for _, factor := range []api.Nat{{1}, {6}, {0, 2}, slices.Repeat(api.Nat{1<<32 - 1}, 3)} {
-		num, _ := natural.Mul(x.Num, factor)
-		den, _ := natural.Mul(x.Den, factor)
-		form := api.Frac{Neg: x.Neg, Num: num, Den: den}
-		if fraction.Valid(form) {
-			out = append(out, form, api.Frac{Neg: x.Neg, Num: append(num, 0), Den: append(den, make(api.Nat, api.MaxFracLimbs)...)})
-		}
-	}
-	if len(x.Num) == 0 {
-		long := slices.Repeat(api.Nat{7}, api.MaxFracLimbs)
-		out = append(out, api.Frac{Neg: true, Den: long}, api.Frac{Neg: true, Num: make(api.Nat, 200), Den: api.Nat{6}}, api.Frac{Num: api.Nat{0}, Den: long})
-	}
-	return out
-}
-
-// invalid returns fractions that are not valid.
-func invalid() []api.Frac {
-	long := append(make(api.Nat, api.MaxFracLimbs), 1)
-	return []api.Frac{
-		{}, {Num: api.Nat{1}}, {Neg: true, Den: api.Nat{0, 0}}, {Num: api.Nat{1}, Den: api.Nat{0}},
-		{Num: long, Den: api.Nat{1}}, {Den: long}, {Num: long, Den: long}, {Neg: true, Num: api.Nat{1}, Den: append(long, 0)},
-	}
 }
 
 // number returns a random number, often 0.

@@ -7,6 +7,7 @@ import (
 
 	"drydock/api"
 	"drydock/linear"
+	"drydock/testfrac"
 )
 
 // weigher is a function with a limit of the weight of its arguments, which are made from a square matrix so that they have its weight.
@@ -70,7 +71,7 @@ func zeros(n int) [][]api.Frac {
 	out := constant(n, n, 0).fracs()
 	for _, row := range out {
 		for j, x := range row {
-			list := forms(x)
+			list := testfrac.Forms(x)
 			row[j] = list[len(list)-3+j%3]
 		}
 	}

@@ -6,6 +6,7 @@ import (
 
 	"drydock/api"
 	"drydock/linear"
+	"drydock/testfrac"
 )
 
 // checkShape checks the result of Shape. Where ok is false, both numbers are 0.
@@ -61,11 +62,11 @@ func TestShapeOfElements(t *testing.T) {
 		for i := range rows {
 			for j := range columns {
 				a := constant(rows, columns, 0).fracs()
-				for _, a[i][j] = range invalid() {
+				for _, a[i][j] = range testfrac.Invalid() {
 					checkShape(t, "a matrix with an element that is not valid", a, 0, 0, false)
 				}
 				for _, v := range parse("0 1 -2/3 1000000007/998244353")[0] {
-					for _, a[i][j] = range forms(frac(v)) {
+					for _, a[i][j] = range testfrac.Forms(frac(v)) {
 						checkShape(t, "a matrix with an element of any form", a, rows, columns, true)
 					}
 				}
